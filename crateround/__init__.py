@@ -1,0 +1,1 @@
+"""Crateround: returnable crates between houses."""

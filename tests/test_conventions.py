@@ -1,0 +1,169 @@
+"""The conventions: point 2, for every call of the modules that have landed."""
+
+import copy
+import unittest
+
+from crateround.errors import InvalidLoad, InvalidPair, InvalidText, InvalidWeighting, TooMany
+from crateround.exchanges import Exchanges
+from crateround.loads import Load
+from helpers import NOTHING, check_dict, halves, load_pairs, samples
+
+CLASS_METHODS = {
+    Load: ["__init__", "of", "counts", "kinds", "positive", "negative", "__getitem__", "__contains__", "__len__",
+           "__bool__", "__add__", "__sub__", "__neg__", "__mul__", "__rmul__", "__eq__", "__le__", "__lt__", "__ge__",
+           "__gt__", "total", "text", "read"],
+    Exchanges: ["__init__", "pairs", "kinds", "steps", "basis", "plain", "__call__", "is_equivalent", "__contains__",
+                "order", "reduced", "structure", "class_count", "combination", "weighting", "is_combination",
+                "is_weighting", "weightings", "weighed", "__le__", "__eq__", "__lt__", "__ge__", "__gt__", "__or__",
+                "__and__", "separating", "fairness", "is_fairness", "covering", "is_covering", "loan", "is_loan"],
+}
+
+
+def all_calls(rules, one, other):
+    """What every method of the rules returns, each called with its arguments by name."""
+    stock, goal = one.positive + other.negative, other.positive + one.negative
+    return [
+        rules.pairs, rules.kinds, rules.steps, rules.basis(), rules.plain(load=one), rules(load=one),
+        rules.is_equivalent(one=one, other=other), one in rules, rules.order(load=one), rules.reduced().pairs,
+        rules.structure(), rules.class_count(), rules.combination(one=one, other=other),
+        rules.weighting(one=one, other=other), rules.is_combination(one=one, other=other, value=()),
+        rules.is_weighting(one=one, other=other, value=({}, 0)), rules.weightings(),
+        (rules | halves()).pairs, (rules & halves()).pairs, rules.separating(other=halves()), rules.fairness(),
+        rules.is_fairness(value=("fair", {})), rules.covering(one=one, other=other),
+        rules.is_covering(one=one, other=other, value=("less", {})), rules.loan(one=stock, other=goal),
+        rules.is_loan(one=stock, other=goal, value=(NOTHING, [])),
+    ]
+
+
+def by_position(rules, one, other):
+    stock, goal = one.positive + other.negative, other.positive + one.negative
+    return [
+        rules.pairs, rules.kinds, rules.steps, rules.basis(), rules.plain(one), rules(one),
+        rules.is_equivalent(one, other), one in rules, rules.order(one), rules.reduced().pairs,
+        rules.structure(), rules.class_count(), rules.combination(one, other),
+        rules.weighting(one, other), rules.is_combination(one, other, ()),
+        rules.is_weighting(one, other, ({}, 0)), rules.weightings(),
+        (rules | halves()).pairs, (rules & halves()).pairs, rules.separating(halves()), rules.fairness(),
+        rules.is_fairness(("fair", {})), rules.covering(one, other),
+        rules.is_covering(one, other, ("less", {})), rules.loan(stock, goal),
+        rules.is_loan(stock, goal, (NOTHING, [])),
+    ]
+
+
+def dicts_in(value):
+    if isinstance(value, dict):
+        yield value
+    if isinstance(value, (tuple, list)):
+        for entry in value:
+            yield from dicts_in(entry)
+
+
+class ConventionsTest(unittest.TestCase):
+
+    def test_methods_are_defined_in_their_classes(self):
+        for cls, names in CLASS_METHODS.items():
+            for name in names:
+                self.assertIn(name, vars(cls), cls)
+        self.assertEqual((Load.__module__, Exchanges.__module__), ("crateround.loads", "crateround.exchanges"))
+
+    def test_equal_calls_return_equal_results(self):
+        """By name and by position, again, and of rules that were made anew with equal pairs."""
+        for number, rules in enumerate(samples()):
+            again = Exchanges(*[(Load(**left.counts), Load(**right.counts)) for left, right in rules.pairs])
+            for one, other in load_pairs(rules, number)[:5]:
+                first = all_calls(rules, one, other)
+                self.assertEqual(first, all_calls(rules, one, other))
+                self.assertEqual(first, by_position(rules, one, other))
+                same = Load.of(dict(reversed(list(one.counts.items()))))
+                self.assertEqual(first, all_calls(again, same, other))
+
+    def test_returned_dicts_are_ascending(self):
+        for number, rules in enumerate(samples()):
+            for one, other in load_pairs(rules, number)[:5]:
+                for value in dicts_in(all_calls(rules, one, other)):
+                    check_dict(self, value)
+
+    def test_returned_values_are_new(self):
+        rules = halves()
+        one, other = Load(whole=1), Load(rack=1)
+        before = copy.deepcopy(all_calls(rules, one, other))
+        for value in all_calls(rules, one, other):
+            for found in dicts_in(value):
+                found.clear()
+                found["x"] = 1
+            if isinstance(value, list):
+                value.clear()
+        rules.loan(Load(half=2), Load(whole=1))[1].append(None)
+        one.counts.clear()
+        self.assertEqual(all_calls(rules, one, other), before)
+        self.assertEqual(rules.loan(Load(half=2), Load(whole=1))[1], [(0, 1)])
+
+    def test_nothing_that_is_passed_is_changed(self):
+        rules = halves()
+        pairs = (rules.pairs[1], rules.pairs[0])
+        counts, weights = {"tray": 0, "box": 3}, {"b": 2, "a": 1}
+        uses, fair = [(0, 2), (1, 1)], {"whole": 2, "half": 1, "rack": 2}
+        passed = [pairs, counts, weights, uses, fair]
+        before = copy.deepcopy(passed)
+        Exchanges(*pairs), Load.of(counts), Load(**counts), Exchanges.weighed(weights, 0)
+        rules.is_loan(Load(half=4), Load(rack=2), (NOTHING, uses))
+        rules.is_fairness(("fair", fair))
+        rules.is_weighting(Load(half=1), Load(rack=1), (fair, 0))
+        rules.is_covering(Load(half=1), Load(rack=1), ("less", fair))
+        self.assertEqual(passed, before)
+        self.assertEqual([list(value) for value in passed[1:]], [list(value) for value in before[1:]])
+        one, other = Load(half=7, cart=-1), Load(rack=3, box=2)
+        all_calls(rules, one, other)
+        one + other, one - other, -one, 3 * one, one <= other, Load.total(one, other)
+        self.assertEqual([one.text(), other.text()], ["cart -1 half 7", "box 2 rack 3"])
+        self.assertEqual(rules.pairs, halves().pairs)
+
+    def test_objects_copy_what_they_keep(self):
+        weights = {"half": 1, "whole": 2}
+        rules = Exchanges.weighed(weights, 0)
+        weights["whole"] = 3
+        self.assertEqual(rules.pairs, ((Load(half=2), Load(whole=1)),))
+        pairs = [(Load(half=2), Load(whole=1))]
+        rules = Exchanges(*pairs)
+        pairs.append((Load(rack=1), NOTHING))
+        self.assertEqual(len(rules.pairs), 1)
+
+    def test_is_methods_return_true_or_false(self):
+        rules = halves()
+        one, other = Load(half=4), Load(rack=2)
+        good = {"half": 1, "rack": 2, "whole": 2}
+        for found in [rules.is_equivalent(one, other), rules.is_combination(one, other, (2, 1)),
+                      rules.is_weighting(one, Load(), (good, 0)), rules.is_fairness(("fair", good)),
+                      rules.is_covering(one, other, ("covers", 1, (-2, -1))),
+                      rules.is_loan(one, other, (NOTHING, [(0, 2), (1, 1)])), one - other in rules]:
+            self.assertIs(found, True)
+
+    def test_errors_are_raised_in_the_order_described(self):
+        with self.assertRaises(InvalidPair):
+            Exchanges(*[(Load.of({kind: 1}), NOTHING) for kind in "abcdefghi"], ())
+        with self.assertRaises(TooMany) as caught:
+            Exchanges(*[(Load.of({kind: 1}), NOTHING) for kind in "abcdefghi"])
+        self.assertEqual(caught.exception.most, 8)
+        with self.assertRaises(InvalidWeighting) as caught:
+            Exchanges.weighed(None, 1)
+        self.assertIsNone(caught.exception.value)
+        value = {"B": None, 1: 1}
+        with self.assertRaises(InvalidLoad) as caught:
+            Load.of(value)
+        self.assertIs(caught.exception.value, value)
+        with self.assertRaises(InvalidText):
+            Load.read(None)
+
+    def test_a_call_that_raises_changes_nothing(self):
+        rules = halves()
+        wrong = Load(half=-1)
+        for call in (rules.loan, lambda one, other: rules.is_loan(one, other, (NOTHING, []))):
+            with self.assertRaises(InvalidLoad) as caught:
+                call(wrong, Load())
+            self.assertIs(caught.exception.value, wrong)
+        self.assertEqual(wrong.counts, {"half": -1})
+        self.assertEqual(rules.pairs, halves().pairs)
+
+
+if __name__ == "__main__":
+    unittest.main()
