@@ -28,3 +28,11 @@ def weight_of(load, weights, modulus):
     """What the load weighs, modulo the modulus if it is not 0."""
     weight = sum([count * weights.get(kind, 0) for kind, count in load.counts.items()])
     return weight if modulus == 0 else weight % modulus
+
+
+def ranked(rows):
+    """The different ones of these rows of counts from 0 on, in ascending order."""
+    # Texts of one width are ordered as their counts are; LANGUAGE.md (L5) sorts no tuples beside loads.
+    width = max([len(str(count)) for row in rows for count in row], default=0)
+    texts = {" ".join([str(count).zfill(width) for count in row]): row for row in rows}
+    return [texts[text] for text in sorted(texts, key=str)]

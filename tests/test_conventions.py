@@ -3,9 +3,12 @@
 import copy
 import unittest
 
+from crateround.books import Book
+from crateround.counters import Counter
 from crateround.errors import InvalidLoad, InvalidPair, InvalidText, InvalidWeighting, TooMany
 from crateround.exchanges import Exchanges
 from crateround.loads import Load
+from crateround.notes import Note
 from helpers import NOTHING, check_dict, halves, load_pairs, samples
 
 CLASS_METHODS = {
@@ -16,7 +19,13 @@ CLASS_METHODS = {
                 "order", "reduced", "structure", "class_count", "combination", "weighting", "is_combination",
                 "is_weighting", "weightings", "weighed", "__le__", "__eq__", "__lt__", "__ge__", "__gt__", "__or__",
                 "__and__", "separating", "fairness", "is_fairness", "covering", "is_covering", "loan", "is_loan"],
+    Counter: ["__init__", "stocks", "stock_count", "uses_to", "is_use"],
+    Note: ["__init__", "__eq__"],
+    Book: ["__init__", "say", "withdraw", "status", "standing", "numbers", "exchanges", "houses", "balance", "net",
+           "balances", "close", "closed", "history", "undo", "redo", "at", "attempt", "explore", "depth", "__eq__",
+           "written", "read"],
 }
+MODULES = {Load: "loads", Exchanges: "exchanges", Counter: "counters", Note: "notes", Book: "books"}
 
 
 def all_calls(rules, one, other):
@@ -58,13 +67,17 @@ def dicts_in(value):
             yield from dicts_in(entry)
 
 
+def len_of(book):
+    return len(book.history())
+
+
 class ConventionsTest(unittest.TestCase):
 
     def test_methods_are_defined_in_their_classes(self):
         for cls, names in CLASS_METHODS.items():
             for name in names:
                 self.assertIn(name, vars(cls), cls)
-        self.assertEqual((Load.__module__, Exchanges.__module__), ("crateround.loads", "crateround.exchanges"))
+            self.assertEqual(cls.__module__, "crateround." + MODULES[cls])
 
     def test_equal_calls_return_equal_results(self):
         """By name and by position, again, and of rules that were made anew with equal pairs."""
@@ -137,6 +150,30 @@ class ConventionsTest(unittest.TestCase):
                       rules.is_covering(one, other, ("covers", 1, (-2, -1))),
                       rules.is_loan(one, other, (NOTHING, [(0, 2), (1, 1)])), one - other in rules]:
             self.assertIs(found, True)
+
+    def test_books_by_position_and_by_name(self):
+        """Equal calls on books that are equal return equal results, and change no argument."""
+        note = Note(number=1, day=5, giver="ann", taker="bo", load=Load(half=3))
+        one, other = Book(halves()), Book(exchanges=halves())
+        settling = {2: None}
+        for book in (one, other):
+            book.say("bo", Note(2, 4, "bo", "cy", Load(rack=1)))
+        self.assertEqual([one.say("ann", note), one.say("bo", note), one.close(4, settling), one.withdraw("ann", 1),
+                          one.undo(2), one.redo(1)], [None] * 6)
+        self.assertEqual([other.say(note=note, house="ann"), other.say(house="bo", note=note),
+                          other.close(settling=settling, day=4), other.withdraw(number=1, house="ann"),
+                          other.undo(count=2), other.redo(count=1)], [None] * 6)
+        self.assertEqual((settling, note), ({2: None}, Note(1, 5, "ann", "bo", Load(half=3))))
+        self.assertEqual(one, other)
+        self.assertEqual(
+            [one.status(1), one.standing("bo", 1), one.balance("bo", "ann", 5), one.net("ann", 5), one.balances(5),
+             one.at(2), one.attempt(len_of), one.explore(len_of), one.balance("ann", "bo", 4, exact=True),
+             one.net("bo", exact=True)],
+            [other.status(number=1), other.standing(number=1, house="bo"), other.balance(day=5, other="ann", one="bo"),
+             other.net(day=5, house="ann"), other.balances(day=5), other.at(count=2), other.attempt(action=len_of),
+             other.explore(action=len_of), other.balance("ann", exact=True, day=4, other="bo"),
+             other.net(exact=True, house="bo")])
+        self.assertEqual(one.at(3), Book.read(one.at(3).written(), halves()))
 
     def test_errors_are_raised_in_the_order_described(self):
         with self.assertRaises(InvalidPair):

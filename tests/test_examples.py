@@ -4,8 +4,12 @@ import doctest
 import os
 import unittest
 
+from crateround.books import Book
+from crateround.counters import Counter
 from crateround.exchanges import Exchanges
 from crateround.loads import Load
+from crateround.notes import Note
+from helpers import halves
 
 ROOT = os.path.dirname(os.path.dirname(os.path.abspath(__file__)))
 
@@ -27,6 +31,21 @@ class ExamplesTest(unittest.TestCase):
             [halves.structure(), halves.is_weighting(Load(whole=1), Load(rack=1), ({"rack": 1}, 2)),
              halves.fairness()[0]],
             [((2,), 1), True, "fair"])
+
+    def test_counters(self):
+        self.assertEqual(
+            [[stock.counts for stock in Counter(halves(), Load(half=3)).stocks()],
+             Counter(halves(), Load(half=3)).uses_to(Load(half=1, whole=1))],
+            [[{"half": 3}, {"half": 1, "whole": 1}], [(0, 0)]])
+
+    def test_books(self):
+        book = Book(halves())
+        note = Note(1, 5, "ann", "bo", Load(half=3))
+        self.assertEqual(
+            [book.say("ann", note), book.status(1), book.say("bo", note), book.balance("ann", "bo").counts,
+             book.balance("bo", "ann").counts],
+            [None, "open", None, {"half": 1, "whole": 1}, {"half": 1, "whole": -2}])
+        self.assertEqual(book.written(), b"say ann 1 5 ann bo half 3\nsay bo 1 5 ann bo half 3\n")
 
     def test_readme(self):
         found = doctest.testfile(os.path.join(ROOT, "README.md"), module_relative=False)
