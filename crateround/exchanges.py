@@ -143,7 +143,7 @@ class Exchanges:
         found = []
         for factor, row in scales:
             if factor > 1:
-                found.append((weights_of([entry % factor for entry in row], self._kinds), factor))
+                found.append((weights_of([int(entry) % factor for entry in row], self._kinds), factor))
         for row in free:
             found.append((weights_of(row, self._kinds), 0))
         return found

@@ -38,7 +38,8 @@ def copy_of(note):
 
 def sum_of(notes):
     """The sum of the loads of the notes."""
-    return Load.total(*[note.load for note in notes])
+    loads = [note.load for note in notes]
+    return Load.total(*loads)
 
 
 def sum_between(notes, one, other):

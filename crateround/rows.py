@@ -27,7 +27,7 @@ def weights_of(row, kinds):
 def weight_of(load, weights, modulus):
     """What the load weighs, modulo the modulus if it is not 0."""
     weight = sum([count * weights.get(kind, 0) for kind, count in load.counts.items()])
-    return weight if modulus == 0 else weight % modulus
+    return weight if modulus == 0 else int(weight) % modulus
 
 
 def ranked(rows):
