@@ -2,7 +2,7 @@
 
 from crateround.checks import ascending, is_integer
 from crateround.errors import Closed, InvalidData, InvalidDay, InvalidNote, InvalidSettling, NoNote
-from crateround.errors import NotASide, OtherPair, OutOfRange
+from crateround.errors import NotASide, OtherPair, OutOfRange, OverLimit
 from crateround.ledgers import SAY, Ledger, sides_of
 from crateround.lines import enter, line_of, parts_of
 from crateround.notes import copy_of, sum_between, sum_from
@@ -31,7 +31,8 @@ class Book:
                 raise InvalidData(index)
             try:
                 enter(book, parts)
-            except (Closed, InvalidDay, InvalidNote, InvalidSettling, NoNote, NotASide, OtherPair) as error:
+            except (Closed, InvalidDay, InvalidNote, InvalidSettling, NoNote, NotASide, OtherPair,
+                    OverLimit) as error:
                 raise InvalidData(index) from error
         if rest != b"":
             raise InvalidData(len(lines))
@@ -106,6 +107,10 @@ class Book:
                     found[(one, other)] = plain
         return found
 
+    def doubts(self):
+        """A dict from the numbers in doubt, ascending, to dicts from their choices to the notes that count then."""
+        return self._ledger.doubts()
+
     def history(self):
         """The tuple of all entries that were performed and not undone."""
         return tuple([copied_entry(entry) for entry in self._ledger.entries()])
@@ -113,12 +118,12 @@ class Book:
     def undo(self, count=1):
         """Take back so many entries."""
         check_count(count, len(self._ledger.done) - self._floor)
-        self._ledger.take_back(count)
+        self._take_back(count)
 
     def redo(self, count=1):
         """Perform again so many of the entries that were taken back."""
         check_count(count, len(self._ledger.undone))
-        self._ledger.perform_again(count)
+        self._perform_again(count)
 
     def at(self, count):
         """The book as it was after so many entries."""
@@ -144,13 +149,25 @@ class Book:
         return "".join([line_of(entry) + "\n" for entry in self._ledger.entries()]).encode()
 
     def __eq__(self, other):
-        return (isinstance(other, Book) and self.__class__.__name__ == other.__class__.__name__
+        return isinstance(other, Book) and self._is_like(other)
+
+    def _is_like(self, other):
+        """Whether another book is of the same class and has the same rules and entries."""
+        return (self.__class__.__name__ == other.__class__.__name__
                 and self._exchanges.pairs == other._exchanges.pairs
                 and self._ledger.entries() == other._ledger.entries())
 
     def _perform(self, step):
         """Perform a new step."""
         self._ledger.perform(step)
+
+    def _take_back(self, count):
+        """Take back so many steps, which are there."""
+        self._ledger.take_back(count)
+
+    def _perform_again(self, count):
+        """Perform again so many steps, which are there."""
+        self._ledger.perform_again(count)
 
     def _outcome(self, load, exact):
         """A balance as it is returned."""

@@ -40,3 +40,10 @@ def ascending(words):
     """The list of the words, ascending and without duplicates."""
     found = {word: True for word in words}
     return sorted(found, key=str)
+
+
+def ascending_pairs(pairs):
+    """The list of the pairs of words, ascending and without duplicates."""
+    # The space comes before all letters, so that the texts are ordered as the pairs are.
+    texts = {f"{one} {other}": (one, other) for one, other in pairs}
+    return [texts[text] for text in sorted(texts, key=str)]

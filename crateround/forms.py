@@ -1,9 +1,10 @@
-"""Whether any values have the form of stocks, pairs, weightings and loans."""
+"""Whether any values have the form of stocks, pairs, weightings, loans, and of what makes a yard."""
 
-from crateround.checks import is_integer, is_integers, is_weights
+from crateround.checks import is_integer, is_integers, is_weights, is_word
 from crateround.loads import Load
 
 MOST_COUNT = 10 ** 6
+MOST_HOUSES = 9
 
 
 def is_stock(value):
@@ -39,3 +40,27 @@ def is_loan_form(value, many):
     if not is_stock(load) or not isinstance(uses, list):
         return False
     return all([is_integers(use, 2) and 0 <= use[0] < many and use[1] != 0 for use in uses])
+
+
+def is_nets(value):
+    """Whether any value is a dict from one to nine houses to loads."""
+    if not isinstance(value, dict) or not 1 <= len(value) <= MOST_HOUSES:
+        return False
+    return all([is_word(house) and isinstance(value[house], Load) for house in value])
+
+
+def is_houses_of(value, houses):
+    """Whether any value is a list or a tuple of some of these houses."""
+    return isinstance(value, (list, tuple)) and all([is_word(house) and house in houses for house in value])
+
+
+def is_road(value, houses):
+    """Whether any value is a tuple of two different ones of these houses."""
+    if not isinstance(value, tuple) or len(value) != 2:
+        return False
+    return is_houses_of(value, houses) and value[0] != value[1]
+
+
+def is_roads(value, houses):
+    """Whether any value is a list or a tuple of roads between these houses."""
+    return isinstance(value, (list, tuple)) and all([is_road(road, houses) for road in value])

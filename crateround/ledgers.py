@@ -2,7 +2,7 @@
 
 from crateround.checks import ascending, is_integer
 from crateround.errors import Closed, InvalidDay, InvalidSettling, NoNote, NotASide, OtherPair
-from crateround.notes import copy_of
+from crateround.notes import copy_of, up_to
 
 SAY = "say"
 WITHDRAW = "withdraw"
@@ -33,9 +33,9 @@ class Record:
             return OPEN
         return AGREED if notes[0] == notes[1] else UNLIKE
 
-    def agreed_note(self):
-        """The note that both houses say, None if there is none."""
-        return self.standing_notes[self.sides[0]] if self.told_status() == AGREED else None
+    def agreed_notes(self):
+        """A list of the note that both houses say, an empty one if there is none."""
+        return [self.standing_notes[self.sides[0]]] if self.told_status() == AGREED else []
 
     def choices(self):
         """What can become of a number in doubt: houses, ascending, and None last."""
@@ -43,6 +43,14 @@ class Record:
         if word == OPEN:
             return *self.standing_notes, None
         return self.sides if word == UNLIKE else ()
+
+    def chosen_notes(self):
+        """A dict from the choices to lists of the note that counts then, empty ones if none does."""
+        return {house: [] if house is None else [self.standing_notes[house]] for house in self.choices()}
+
+    def possible_notes(self):
+        """The lists of notes of which one will count, whatever is chosen."""
+        return list(self.chosen_notes().values()) or [self.agreed_notes()]
 
     def is_due(self, day):
         """Whether the number is in doubt and one of its standing notes has a day up to this one."""
@@ -87,11 +95,15 @@ class Ledger:
     def duplicate(self):
         """A ledger that holds the same and is changed apart from this one."""
         found = Ledger()
-        found.done = list(self.done)
-        found.undone = list(self.undone)
-        found.records = dict(self.records)
-        found.closed_day = self.closed_day
+        self.copy_to(found)
         return found
+
+    def copy_to(self, other):
+        """Make a new ledger hold the same as this one."""
+        other.done = list(self.done)
+        other.undone = list(self.undone)
+        other.records = dict(self.records)
+        other.closed_day = self.closed_day
 
     def entries(self):
         """The list of the entries that were performed and not undone."""
@@ -115,8 +127,12 @@ class Ledger:
 
     def agreed_notes(self, day):
         """The list of the notes that both houses say, up to this day if it is not None."""
-        notes = [record.agreed_note() for record in self.records.values()]
-        return [note for note in notes if note is not None and (day is None or note.day <= day)]
+        return up_to([note for record in self.records.values() for note in record.agreed_notes()], day)
+
+    def doubts(self):
+        """A dict from the numbers in doubt, ascending, to dicts from their choices to the notes that count then."""
+        found = {number: record.chosen_notes() for number, record in self.records.items() if record.choices()}
+        return {number: found[number] for number in sorted(found, key=int)}
 
     def is_closed(self, day):
         """Whether this day is closed."""
@@ -165,9 +181,8 @@ class Ledger:
         for _ in range(count):
             step = self.done.pop()
             self.undone.append(step)
-            for change in step.changes:
-                number, before, _ = change
-                self.records[number] = before
+            for number, before, after in step.changes:
+                self.change(number, after, before)
             self.closed_day = step.day_before
 
     def perform_again(self, count):
@@ -178,10 +193,13 @@ class Ledger:
     def _go_forward(self, step):
         """Perform a step."""
         self.done.append(step)
-        for change in step.changes:
-            number, _, after = change
-            self.records[number] = after
+        for number, before, after in step.changes:
+            self.change(number, before, after)
         self.closed_day = step.day_after
+
+    def change(self, number, _, after):
+        """Put a record after another one."""
+        self.records[number] = after
 
     def _step(self, entry, number, after):
         """The step of an entry that changes the record of one number."""

@@ -36,6 +36,11 @@ def copy_of(note):
     return Note(note.number, note.day, note.giver, note.taker, note.load)
 
 
+def up_to(notes, day):
+    """The list of the notes whose day is at most this one, of all of them if it is None."""
+    return [note for note in notes if day is None or note.day <= day]
+
+
 def sum_of(notes):
     """The sum of the loads of the notes."""
     loads = [note.load for note in notes]

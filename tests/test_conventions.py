@@ -1,15 +1,20 @@
 """The conventions: point 2, for every call of the modules that have landed."""
 
 import copy
+import inspect
 import unittest
 
 from crateround.books import Book
+from crateround import drives, rings, settlings
 from crateround.counters import Counter
+from crateround.drives import Yard, drive_notes, first_order
 from crateround.errors import InvalidLoad, InvalidPair, InvalidText, InvalidWeighting, TooMany
 from crateround.exchanges import Exchanges
+from crateround.guards import CountedBook, GuardedBook, GuardedCountedBook
 from crateround.loads import Load
 from crateround.notes import Note
-from helpers import NOTHING, check_dict, halves, load_pairs, samples
+from bookcase import note_of
+from helpers import NOTHING, any_values, check_dict, halves, load_pairs, samples
 
 CLASS_METHODS = {
     Load: ["__init__", "of", "counts", "kinds", "positive", "negative", "__getitem__", "__contains__", "__len__",
@@ -24,8 +29,21 @@ CLASS_METHODS = {
     Book: ["__init__", "say", "withdraw", "status", "standing", "numbers", "exchanges", "houses", "balance", "net",
            "balances", "close", "closed", "history", "undo", "redo", "at", "attempt", "explore", "depth", "__eq__",
            "written", "read"],
+    GuardedBook: ["__init__", "__eq__", "limit", "set_limit", "weights"],
+    CountedBook: ["__init__", "counts"],
+    GuardedCountedBook: ["__init__"],
+    Yard: ["__init__", "nets", "roads", "counters", "is_even", "stuck", "fewest", "drives", "parts"],
 }
-MODULES = {Load: "loads", Exchanges: "exchanges", Counter: "counters", Note: "notes", Book: "books"}
+MODULES = {Load: "loads", Exchanges: "exchanges", Counter: "counters", Note: "notes", Book: "books",
+           GuardedBook: "guards", CountedBook: "guards", GuardedCountedBook: "guards", Yard: "drives"}
+FUNCTIONS = {
+    settlings: {
+        "choices": "book number", "settled_balance": "book settling one other day", "doubtful": "book one other day",
+        "is_sure": "book one other day", "parting": "book one other day", "possible_balances": "book one other day",
+        "settling_for": "book wished day", "sure_exchanges": "book pairs day", "worths": "book weights one other day"},
+    rings: {"net_loads": "exchanges debts", "rings": "exchanges debts", "after_rings": "exchanges debts rings"},
+    drives: {"drive_notes": "drives day number", "first_order": "drives stocks"},
+}
 
 
 def all_calls(rules, one, other):
@@ -67,6 +85,17 @@ def dicts_in(value):
             yield from dicts_in(entry)
 
 
+DEBTS = {("bo", "cy"): Load(whole=-1, half=3), ("ann", "cy"): Load(half=-1), ("ann", "bo"): Load(half=1)}
+
+
+def doubtful_book(rules=None):
+    """A book with numbers in doubt that were not said in their order."""
+    book = Book(rules or halves())
+    for number in (7, 2, 5):
+        book.say("ann", note_of(number))
+    return book
+
+
 def len_of(book):
     return len(book.history())
 
@@ -78,6 +107,17 @@ class ConventionsTest(unittest.TestCase):
             for name in names:
                 self.assertIn(name, vars(cls), cls)
             self.assertEqual(cls.__module__, "crateround." + MODULES[cls])
+
+    def test_functions_are_defined_in_their_files(self):
+        for module, functions in FUNCTIONS.items():
+            for name, names in functions.items():
+                function = getattr(module, name)
+                self.assertEqual(function.__module__, module.__name__)
+                parameters = inspect.signature(function).parameters
+                self.assertEqual(list(parameters), names.split())
+                for parameter in parameters.values():
+                    self.assertEqual(parameter.default, None if parameter.name == "day" and module is settlings
+                                     else inspect.Parameter.empty)
 
     def test_equal_calls_return_equal_results(self):
         """By name and by position, again, and of rules that were made anew with equal pairs."""
@@ -174,6 +214,55 @@ class ConventionsTest(unittest.TestCase):
              other.explore(action=len_of), other.balance("ann", exact=True, day=4, other="bo"),
              other.net(exact=True, house="bo")])
         self.assertEqual(one.at(3), Book.read(one.at(3).written(), halves()))
+
+    def test_what_is_returned_last(self):
+        """Of settlings, rings, yards and guarded books: ascending dicts, new ones each time, equal ones for equal calls."""
+        calls = [lambda: settlings.parting(doubtful_book(), "ann", "bo"),
+                 lambda: settlings.settling_for(doubtful_book(), {("ann", "bo"): Load(half=3)}),
+                 lambda: settlings.worths(doubtful_book(), {"whole": 2, "rack": 2}, "ann", "bo"),
+                 lambda: rings.net_loads(halves(), dict(DEBTS)), lambda: rings.after_rings(halves(), dict(DEBTS), []),
+                 lambda: Yard(halves(), {"bo": NOTHING, "ann": NOTHING}, [("bo", "ann")]).nets,
+                 lambda: GuardedBook(halves(), {"whole": 2, "half": 1, "rack": 2}, 3).weights,
+                 lambda: CountedBook(halves()).counts]
+        for call in calls:
+            found = list(dicts_in(call()))
+            self.assertTrue(found)
+            for value in found:
+                self.assertEqual(list(value), sorted(value))
+            self.assertEqual([list(value.items()) for value in dicts_in(call())], [list(value.items()) for value in found])
+
+    def test_returned_objects_may_be_changed(self):
+        book, yard = doubtful_book(), Yard(halves(), {"ann": Load(half=1), "bo": Load(half=-1)}, [("bo", "ann")], ["bo"])
+        guarded = GuardedCountedBook(halves(), {"whole": 2, "rack": 2}, 3)
+        def told():
+            return [settlings.doubtful(book, "ann", "bo"), settlings.possible_balances(book, "ann", "bo"),
+                    settlings.parting(book, "ann", "bo"), rings.rings(halves(), DEBTS), rings.net_loads(halves(), DEBTS),
+                    yard.nets, yard.drives(), yard.parts(), guarded.weights, guarded.counts, drive_notes(yard.drives(), 1, 1)]
+        before = copy.deepcopy(told())
+        for value in told():
+            for found in dicts_in(value):
+                found.clear()
+            if isinstance(value, list):
+                value.clear()
+        self.assertEqual(told(), before)
+
+    def test_equivalence_settles_what_is_doubtful(self):
+        """Point 3: either the balance is the same whatever becomes of the notes, or two settlings part it."""
+        for rules, sure in [(Exchanges(), False), (halves(), False), (Exchanges((Load(half=3), NOTHING)), True)]:
+            book = doubtful_book(rules)
+            self.assertIs(settlings.is_sure(book, "ann", "bo"), sure)
+            self.assertIs(settlings.parting(book, "ann", "bo") is None, sure)
+            self.assertIs(settlings.is_sure(Book(settlings.sure_exchanges(book, [("ann", "bo")])), "ann", "bo"), True)
+
+    def test_any_value_is_examined(self):
+        """Functions that begin with is_ raise nothing and return True or False."""
+        rules, yard = halves(), Yard(halves(), {"ann": NOTHING}, [])
+        one = Load(half=2)
+        for value in [*any_values(), one, rules, yard, doubtful_book(), note_of(), Counter(rules, one)]:
+            for found in [rules.is_combination(one, one, value), rules.is_weighting(one, one, value),
+                          rules.is_fairness(value), rules.is_covering(one, one, value), rules.is_loan(one, one, value),
+                          Counter(rules, one).is_use(one, value), yard.is_even(value), value in rules]:
+                self.assertIs(type(found), bool)
 
     def test_errors_are_raised_in_the_order_described(self):
         with self.assertRaises(InvalidPair):

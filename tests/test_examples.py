@@ -6,9 +6,12 @@ import unittest
 
 from crateround.books import Book
 from crateround.counters import Counter
+from crateround.drives import Yard, first_order
 from crateround.exchanges import Exchanges
 from crateround.loads import Load
 from crateround.notes import Note
+from crateround.rings import after_rings, rings
+from crateround.settlings import choices, is_sure, possible_balances
 from helpers import halves
 
 ROOT = os.path.dirname(os.path.dirname(os.path.abspath(__file__)))
@@ -46,6 +49,31 @@ class ExamplesTest(unittest.TestCase):
              book.balance("bo", "ann").counts],
             [None, "open", None, {"half": 1, "whole": 1}, {"half": 1, "whole": -2}])
         self.assertEqual(book.written(), b"say ann 1 5 ann bo half 3\nsay bo 1 5 ann bo half 3\n")
+        self.check_settlings(book)
+
+    def check_settlings(self, book):
+        self.assertEqual(
+            [book.say("ann", Note(2, 6, "ann", "bo", Load(half=2))), book.say("bo", Note(2, 6, "ann", "bo", Load(whole=1)))],
+            [None, None])
+        self.assertEqual(
+            [book.status(2), choices(book, 2), is_sure(book, "ann", "bo"),
+             possible_balances(book, "ann", "bo")[0].counts],
+            ["unlike", ("ann", "bo"), True, {"half": 1, "whole": 2}])
+
+    def test_rings(self):
+        debts = {("ann", "bo"): Load(half=1), ("ann", "cy"): Load(half=-1), ("bo", "cy"): Load(whole=-1, half=3)}
+        self.assertEqual(
+            [len(rings(halves(), debts)), after_rings(halves(), debts, [(("ann", "bo", "cy"), Load(half=1))])],
+            [1, {}])
+
+    def test_drives(self):
+        yard = Yard(halves(), {"ann": Load(half=2), "bo": Load(whole=-1), "cy": Load()}, [("ann", "bo"), ("bo", "cy")],
+                    ["bo"])
+        self.assertEqual(
+            [yard.fewest(), yard.parts(), yard.stuck(), Yard(halves(), yard.nets, yard.roads).stuck()],
+            [1, (("ann", "bo"), ("cy",)), None, ("ann", "bo", "cy")])
+        self.assertEqual(first_order([("bo", "cy", Load(half=1)), ("ann", "bo", Load(half=2))], {"ann": Load(half=2)}),
+                         (1, 0))
 
     def test_readme(self):
         found = doctest.testfile(os.path.join(ROOT, "README.md"), module_relative=False)
