@@ -107,6 +107,10 @@ class Book:
                     found[(one, other)] = plain
         return found
 
+    def choices_of(self, number):
+        """The choices of any value as a number: houses, ascending, and None last; () if it is not in doubt."""
+        return self._ledger.record_of(number).choices()
+
     def doubts(self):
         """A dict from the numbers in doubt, ascending, to dicts from their choices to the notes that count then."""
         return self._ledger.doubts()

@@ -3,7 +3,7 @@
 Each number in doubt has two choices, which add their own load to a balance: its shares.
 """
 
-from crateround.checks import ascending, is_integer
+from crateround.checks import ascending
 from crateround.errors import TooMany, Unfair
 from crateround.exchanges import rules_of_rows
 from crateround.ledgers import check_settling
@@ -16,8 +16,7 @@ MOST_DOUBTFUL = 10
 
 def choices(book, number):
     """The choices of a number in doubt, () for any other value."""
-    doubts = book.doubts()
-    return tuple(doubts[number]) if is_integer(number) and number in doubts else ()
+    return book.choices_of(number)
 
 
 def settled_balance(book, settling, one, other, day=None):

@@ -312,6 +312,13 @@ class FewestTest(YardCase):
         yard = self.check(halves(), nets, path("acbd"), [])
         self.assertEqual((yard.fewest(), yard.parts()), (2, (("a", "c"), ("b", "d"))))
 
+    def test_parts_are_the_most_whatever_comes_first(self):
+        """With a and b in one part there are two parts, with a and c three."""
+        one, two = Load(box=1), Load(tray=1)
+        nets = {"a": one, "b": -one, "c": -one, "d": one, "e": two, "f": -two}
+        yard = self.check(Exchanges(), nets, [("a", "b"), ("a", "c"), ("b", "d"), ("c", "e"), ("e", "f"), ("f", "d")], [])
+        self.assertEqual((yard.fewest(), yard.parts()), (3, (("a", "c"), ("b", "d"), ("e", "f"))))
+
     def test_counters_make_more_parts(self):
         nets = {"a": Load(half=2), "b": Load(whole=-1), "c": Load(whole=1), "d": Load(half=-2)}
         for counters, fewest in (([], 3), (["a"], 3), (["a", "d"], 2), (["a", "c"], 2), (["b", "c"], 2), (["a", "b"], 3)):
